@@ -1,0 +1,118 @@
+"""Terms: numbers, names, and sums, products and powers of terms."""
+
+from runsums.bits import bits_of
+from runsums.errors import NoNumber, TooGreat
+
+LETTERS = "abcdefghijklmnopqrstuvwxyz"
+LETTERS_AND_FIGURES = "abcdefghijklmnopqrstuvwxyz0123456789"
+MOST_SIGNS = 10
+MOST_BITS = 1000000
+
+
+def is_name(text):
+    """Whether the text is a name."""
+    if not 1 <= len(text) <= MOST_SIGNS or text[0] not in LETTERS:
+        return False
+    return all([sign in LETTERS_AND_FIGURES for sign in text])
+
+
+def sum_of(terms):
+    """The sum of several terms, added from the left; of none the number 0."""
+    if len(terms) == 0:
+        return ("num", 0)
+    total = terms[0]
+    for term in terms[1:]:
+        total = ("plus", total, term)
+    return total
+
+
+def parts(term):
+    """How many terms there are in the term, itself counted, each as often as it stands."""
+    count = 0
+    waiting = [term]
+    while waiting:
+        part = waiting.pop()
+        count += 1
+        waiting.extend(_terms_in(part))
+    return count
+
+
+def deep(term):
+    """How many steps lead down to the deepest of the terms in the term."""
+    deepest = 0
+    waiting = [(term, 0)]
+    while waiting:
+        part, depth = waiting.pop()
+        deepest = max(deepest, depth)
+        waiting.extend([(inner, depth + 1) for inner in _terms_in(part)])
+    return deepest
+
+
+def worth(term, answer):
+    """The number that the term comes to by the answer."""
+    # A list of what is still to do, instead of calls within calls: terms may be so deep
+    # that calls would run out. A part stands there opened once its terms are reckoned.
+    waiting = [(term, False)]
+    found = []
+    while waiting:
+        part, opened = waiting.pop()
+        if opened:
+            second = found.pop()
+            first = found.pop()
+            found.append(_joined(part[0], first, second))
+        elif len(_terms_in(part)) == 0:
+            found.append(_lone_worth(part, answer))
+        else:
+            waiting.extend([(part, True), (part[2], False), (part[1], False)])
+    return found[0]
+
+
+def _terms_in(term):
+    if term[0] in ("num", "name"):
+        return ()
+    return term[1:]
+
+
+def _lone_worth(term, answer):
+    if term[0] == "num":
+        return _bounded(term[1])
+    if term[1] not in answer:
+        raise NoNumber(term[1])
+    return _bounded(answer[term[1]])
+
+
+def _joined(word, first, second):
+    if word == "plus":
+        return _bounded(first + second)
+    if word == "times":
+        return _product(first, second)
+    return _power(first, second)
+
+
+def _bounded(number):
+    if number.bit_length() > MOST_BITS:
+        raise TooGreat(MOST_BITS)
+    return number
+
+
+def _product(first, second):
+    # A product has as many bits as both together, or one less: what is surely too great
+    # isn't reckoned at all.
+    if first.bit_length() + second.bit_length() - 1 > MOST_BITS:
+        raise TooGreat(MOST_BITS)
+    return _bounded(first * second)
+
+
+def _power(base, exponent):
+    if exponent == 0:
+        return 1
+    if base < 2:
+        return base
+    # From the exponent's greatest bit on no number on the way is greater than the power
+    # itself, so the first one that is too great tells that the power is.
+    power = 1
+    for bit in bits_of(exponent):
+        power = _product(power, power)
+        if bit == "1":
+            power = _product(power, base)
+    return power

@@ -1,0 +1,61 @@
+import importlib
+import inspect
+import unittest
+
+NONE = inspect.Parameter.empty
+
+# Module by module what the interface lists: each name with its arguments and their defaults.
+FUNCTIONS = {
+    "programs": {"goal_of": ["program", "k"], "moves_of": ["program", "j", "word"]},
+    "progtexts": {"show_program": ["program"], "read_program": ["text"]},
+    "runs": {"ran": ["program", "begin", ("most", 200)], "step_from": ["program", "stand"]},
+    "figures": {
+        "figure": ["number", "base", "k"],
+        "figures": ["number", "base", "many"],
+        "of_figures": ["some", "base"],
+        "ones": ["base", "many"],
+    },
+    "bits": {
+        "bits_of": ["number"],
+        "of_bits": ["text"],
+        "fits": ["one", "other"],
+        "stands_out": ["one", "other"],
+        "how_many": ["number"],
+    },
+    "terms": {
+        "is_name": ["text"],
+        "sum_of": ["terms"],
+        "parts": ["term"],
+        "deep": ["term"],
+        "worth": ["term", "answer"],
+    },
+}
+
+
+def arguments(function):
+    told = []
+    for one in inspect.signature(function).parameters.values():
+        told.append(one.name if one.default is NONE else (one.name, one.default))
+    return told
+
+
+class TestInterface(unittest.TestCase):
+    def test_functions(self):
+        for file, functions in FUNCTIONS.items():
+            module = importlib.import_module("runsums." + file)
+            for name, told in functions.items():
+                with self.subTest(file=file, name=name):
+                    function = getattr(module, name)
+                    self.assertEqual(function.__module__, module.__name__)
+                    self.assertEqual(arguments(function), told)
+
+    def test_program(self):
+        programs = importlib.import_module("runsums.programs")
+        self.assertEqual(programs.Program.__module__, "runsums.programs")
+        self.assertEqual(arguments(programs.Program), ["boxes", "rows"])
+        for method in ("__init__", "__eq__", "__len__", "__str__", "__repr__"):
+            self.assertIn(method, vars(programs.Program))
+
+
+if __name__ == "__main__":
+    unittest.main()
