@@ -26,6 +26,13 @@ def sum_of(terms):
     return total
 
 
+def terms_in(term):
+    """The two terms of which a plus, times or power is made; none of a number or a name."""
+    if term[0] in ("num", "name"):
+        return ()
+    return term[1:]
+
+
 def parts(term):
     """How many terms there are in the term, itself counted, each as often as it stands."""
     count = 0
@@ -33,7 +40,7 @@ def parts(term):
     while waiting:
         part = waiting.pop()
         count += 1
-        waiting.extend(_terms_in(part))
+        waiting.extend(terms_in(part))
     return count
 
 
@@ -44,7 +51,7 @@ def deep(term):
     while waiting:
         part, depth = waiting.pop()
         deepest = max(deepest, depth)
-        waiting.extend([(inner, depth + 1) for inner in _terms_in(part)])
+        waiting.extend([(inner, depth + 1) for inner in terms_in(part)])
     return deepest
 
 
@@ -60,17 +67,11 @@ def worth(term, answer):
             second = found.pop()
             first = found.pop()
             found.append(_joined(part[0], first, second))
-        elif len(_terms_in(part)) == 0:
+        elif len(terms_in(part)) == 0:
             found.append(_lone_worth(part, answer))
         else:
             waiting.extend([(part, True), (part[2], False), (part[1], False)])
     return found[0]
-
-
-def _terms_in(term):
-    if term[0] in ("num", "name"):
-        return ()
-    return term[1:]
 
 
 def _lone_worth(term, answer):

@@ -29,6 +29,9 @@ FUNCTIONS = {
         "deep": ["term"],
         "worth": ["term", "answer"],
     },
+    "sayings": {"names_in": ["saying"], "names_in_all": ["sayings"]},
+    "saytexts": {"term_text": ["term"], "show_saying": ["saying"], "read_saying": ["text"]},
+    "naming": {"names_of": ["program"], "asked_boxes": ["program"]},
 }
 
 
@@ -55,6 +58,13 @@ class TestInterface(unittest.TestCase):
         self.assertEqual(arguments(programs.Program), ["boxes", "rows"])
         for method in ("__init__", "__eq__", "__len__", "__str__", "__repr__"):
             self.assertIn(method, vars(programs.Program))
+
+    def test_saying(self):
+        sayings = importlib.import_module("runsums.sayings")
+        self.assertEqual(sayings.Saying.__module__, "runsums.sayings")
+        self.assertEqual(arguments(sayings.Saying), ["word", "left", "right"])
+        for method in ("__init__", "__eq__", "__str__", "__repr__"):
+            self.assertIn(method, vars(sayings.Saying))
 
 
 if __name__ == "__main__":

@@ -3,42 +3,10 @@ import unittest
 
 from runsums.errors import NoNumber, TooGreat
 from runsums.terms import deep, is_name, parts, sum_of, worth
+from tests.making import full, leaning, name, num, plus, power, times
 from tests.samples import refusal
 
 MOST = 1000000
-
-
-def num(number):
-    return ("num", number)
-
-
-def name(text):
-    return ("name", text)
-
-
-def plus(one, other):
-    return ("plus", one, other)
-
-
-def times(one, other):
-    return ("times", one, other)
-
-
-def power(one, other):
-    return ("power", one, other)
-
-
-def leaning(make, many, left):
-    """A term so many steps deep, on the left side or on the right one."""
-    term = num(1)
-    for _ in range(many):
-        term = make(term, num(1)) if left else make(num(1), term)
-    return term
-
-
-def full(depth):
-    """A term of which all lone ones are so deep."""
-    return num(1) if depth == 0 else plus(full(depth - 1), full(depth - 1))
 
 
 class TestIsName(unittest.TestCase):
