@@ -32,6 +32,18 @@ FUNCTIONS = {
     "sayings": {"names_in": ["saying"], "names_in_all": ["sayings"]},
     "saytexts": {"term_text": ["term"], "show_saying": ["saying"], "read_saying": ["text"]},
     "naming": {"names_of": ["program"], "asked_boxes": ["program"]},
+    "leading": {"sayings_of": ["program"]},
+    "answers": {
+        "least_c": ["program", "begin", ("most", 200)],
+        "answer_of": ["program", "begin", ("more", 0), ("most", 200)],
+    },
+    "looking": {
+        "holds": ["saying", "answer"],
+        "first_wrong": ["sayings", "answer"],
+        "off": ["saying", "answer"],
+        "far_off": ["sayings", "answer"],
+    },
+    "reading": {"run_of": ["program", "answer"]},
 }
 
 
