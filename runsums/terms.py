@@ -1,12 +1,11 @@
 """Terms: numbers, names, and sums, products and powers of terms."""
 
-from runsums.bits import bits_of
-from runsums.errors import NoNumber, TooGreat
+from runsums.errors import NoNumber
+from runsums.reckoning import bounded, bounded_power, bounded_product
 
 LETTERS = "abcdefghijklmnopqrstuvwxyz"
 LETTERS_AND_FIGURES = "abcdefghijklmnopqrstuvwxyz0123456789"
 MOST_SIGNS = 10
-MOST_BITS = 1000000
 
 
 def is_name(text):
@@ -76,44 +75,15 @@ def worth(term, answer):
 
 def _lone_worth(term, answer):
     if term[0] == "num":
-        return _bounded(term[1])
+        return bounded(term[1])
     if term[1] not in answer:
         raise NoNumber(term[1])
-    return _bounded(answer[term[1]])
+    return bounded(answer[term[1]])
 
 
 def _joined(word, first, second):
     if word == "plus":
-        return _bounded(first + second)
+        return bounded(first + second)
     if word == "times":
-        return _product(first, second)
-    return _power(first, second)
-
-
-def _bounded(number):
-    if number.bit_length() > MOST_BITS:
-        raise TooGreat(MOST_BITS)
-    return number
-
-
-def _product(first, second):
-    # A product has as many bits as both together, or one less: what is surely too great
-    # isn't reckoned at all.
-    if first.bit_length() + second.bit_length() - 1 > MOST_BITS:
-        raise TooGreat(MOST_BITS)
-    return _bounded(first * second)
-
-
-def _power(base, exponent):
-    if exponent == 0:
-        return 1
-    if base < 2:
-        return base
-    # From the exponent's greatest bit on no number on the way is greater than the power
-    # itself, so the first one that is too great tells that the power is.
-    power = 1
-    for bit in bits_of(exponent):
-        power = _product(power, power)
-        if bit == "1":
-            power = _product(power, base)
-    return power
+        return bounded_product(first, second)
+    return bounded_power(first, second)
