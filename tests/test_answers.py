@@ -130,6 +130,8 @@ class TestAnswerOf(unittest.TestCase):
         self.is_answer(program, [49])
         self.is_answer(program, [49], 8)
         self.assertEqual(answer_of(program, [49])["s"], 200)
+        self.assertEqual(least_c(program, [49]), 7)
+        self.assertEqual(refusal(NoAnswer, least_c, program, [50]).word, "going")
         self.assertEqual(refusal(NoAnswer, answer_of, program, [50]).word, "going")
         self.assertEqual(refusal(NoAnswer, answer_of, program, [49], most=199).word, "going")
 
