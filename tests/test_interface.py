@@ -44,6 +44,14 @@ FUNCTIONS = {
         "far_off": ["sayings", "answer"],
     },
     "reading": {"run_of": ["program", "answer"]},
+    "choosing": {
+        "choose": ["n", "k"],
+        "halvings": ["number"],
+        "carries": ["one", "other"],
+        "is_odd": ["n", "k"],
+    },
+    "powers": {"figure_of_power": ["n", "k"]},
+    "lowering": {"lowered": ["sayings"], "lowered_answer": ["sayings", "answer"]},
 }
 
 
