@@ -5,6 +5,9 @@ def figure(number, base, k):
     """Figure k of the number, 0 behind the last one."""
     rest = number
     for _ in range(k):
+        # Behind the last figure all are 0, however far it is to the one that is asked for.
+        if rest == 0:
+            return 0
         rest = rest // base
     return rest % base
 

@@ -1,9 +1,9 @@
 """The texts of programs: the line of boxes, then one line for each row."""
 
 from runsums.errors import NoText
+from runsums.numerals import is_numeral
 from runsums.programs import FORMS, Program
 
-FIGURES = "0123456789"
 MOST_FIGURES = 2
 
 
@@ -26,7 +26,7 @@ def _is_line(words, at):
     due = _numbers_due(words[0], at)
     if due is None or len(words) != due + 1:
         return False
-    return all([_is_number(word) for word in words[1:]])
+    return all([is_numeral(word, MOST_FIGURES) for word in words[1:]])
 
 
 def _numbers_due(word, at):
@@ -34,13 +34,6 @@ def _numbers_due(word, at):
     if at == 0:
         return 1 if word == "boxes" else None
     return len(FORMS[word]) if word in FORMS else None
-
-
-def _is_number(word):
-    # isdigit takes figures of other scripts, too, so each sign is looked up here.
-    if not 1 <= len(word) <= MOST_FIGURES or not all([sign in FIGURES for sign in word]):
-        return False
-    return word == "0" or word[0] != "0"
 
 
 def _row_of(words):

@@ -1,11 +1,11 @@
 """The texts of sayings: written, and read sign by sign."""
 
 from runsums.errors import NoText
+from runsums.numerals import FIGURES
 from runsums.sayings import Saying
 from runsums.terms import LETTERS, LETTERS_AND_FIGURES, MOST_SIGNS
 from runsums.termtexts import text_of
 
-FIGURES = "0123456789"
 MOST_FIGURES = 400
 WORDS = {"+": "plus", "*": "times", "^": "power"}
 

@@ -54,10 +54,10 @@ def deep(term):
     return deepest
 
 
-def worth(term, answer):
-    """The number that the term comes to by the answer."""
+def folded(term, lone_of, both_of):
+    """What comes of the term: lone_of tells it of a number or a name, both_of of a word and its two terms'."""
     # A list of what is still to do, instead of calls within calls: terms may be so deep
-    # that calls would run out. A part stands there opened once its terms are reckoned.
+    # that calls would run out. A part stands there opened once its terms are done.
     waiting = [(term, False)]
     found = []
     while waiting:
@@ -65,12 +65,17 @@ def worth(term, answer):
         if opened:
             second = found.pop()
             first = found.pop()
-            found.append(_joined(part[0], first, second))
+            found.append(both_of(part[0], first, second))
         elif len(terms_in(part)) == 0:
-            found.append(_lone_worth(part, answer))
+            found.append(lone_of(part))
         else:
             waiting.extend([(part, True), (part[2], False), (part[1], False)])
     return found[0]
+
+
+def worth(term, answer):
+    """The number that the term comes to by the answer."""
+    return folded(term, lambda part: _lone_worth(part, answer), _joined)
 
 
 def _lone_worth(term, answer):

@@ -1,5 +1,7 @@
 """The texts of terms, as the texts of sayings have them on either side."""
 
+from runsums.numerals import numeral
+
 SIGNS = {"plus": "+", "times": "*", "power": "^"}
 
 
@@ -16,5 +18,5 @@ def text_of(term):
         elif part[0] in SIGNS:
             waiting.extend([")", part[2], f" {SIGNS[part[0]]} ", part[1], "("])
         else:
-            pieces.append(str(part[1]))
+            pieces.append(part[1] if part[0] == "name" else numeral(part[1]))
     return "".join(pieces)

@@ -1,4 +1,6 @@
-"""Terms for the tests: made of their sides, deep ones, full ones and ones made by chance."""
+"""Terms and sayings for the tests: made of their sides, deep ones, full ones and ones made by chance."""
+
+from runsums.sayings import Saying
 
 
 def num(number):
@@ -19,6 +21,14 @@ def times(one, other):
 
 def power(one, other):
     return ("power", one, other)
+
+
+def same(one, other):
+    return Saying("same", one, other)
+
+
+def under(one, other):
+    return Saying("under", one, other)
 
 
 def leaning(make, many, left, lone=("num", 1)):

@@ -22,6 +22,11 @@ class TestFigure(unittest.TestCase):
             self.assertEqual(figure(base, base, 2), 0)
             self.assertEqual(figure(base, base, 300), 0)
 
+    def test_far_behind_the_last_one(self):
+        for base in BASES:
+            self.assertEqual(figure(0, base, 10 ** 30), 0)
+            self.assertEqual(figure(10 ** 800 - 1, base, 10 ** 300), 0)
+
     def test_each_number_by_each_base(self):
         for number in NUMBERS:
             for base in BASES:

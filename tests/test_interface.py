@@ -52,6 +52,9 @@ FUNCTIONS = {
     },
     "powers": {"figure_of_power": ["n", "k"]},
     "lowering": {"lowered": ["sayings"], "lowered_answer": ["sayings", "answer"]},
+    "lifting": {"lifted": ["sayings", "answer"]},
+    "renaming": {"renamed": ["saying", "names"]},
+    "one": {"made_one": ["sayings"], "either": ["one", "other"]},
 }
 
 
@@ -85,6 +88,12 @@ class TestInterface(unittest.TestCase):
         self.assertEqual(arguments(sayings.Saying), ["word", "left", "right"])
         for method in ("__init__", "__eq__", "__str__", "__repr__"):
             self.assertIn(method, vars(sayings.Saying))
+
+    def test_desk(self):
+        desk = importlib.import_module("runsums.desk")
+        self.assertEqual(desk.Desk.__module__, "runsums.desk")
+        self.assertEqual(arguments(desk.Desk), [])
+        self.assertEqual(arguments(vars(desk.Desk)["say"]), ["self", "row"])
 
 
 if __name__ == "__main__":

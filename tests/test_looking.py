@@ -4,22 +4,12 @@ import unittest
 from runsums.errors import NoNumber, TooGreat
 from runsums.looking import far_off, first_wrong, holds, off
 from runsums.sayings import Saying
-from tests.making import name, num, plus, power, times
+from tests.making import name, num, plus, power, same, times, under
 from tests.samples import refusal
 
 MOST = 1000000
 GREAT = power(num(2), num(MOST))
 MISSING = name("z")
-
-
-def same(left, right):
-    return Saying("same", left, right)
-
-
-def under(left, right):
-    return Saying("under", left, right)
-
-
 TRUE = same(num(1), num(1))
 FALSE = same(num(1), num(2))
 

@@ -9,22 +9,12 @@ from runsums.lowering import lowered, lowered_answer
 from runsums.programs import Program
 from runsums.sayings import Saying, names_in_all
 from runsums.saytexts import show_saying
-from tests.making import full, leaning, name, num, plus, power, times
+from tests.making import full, leaning, name, num, plus, power, same, times, under
 from tests.samples import move, refusal, two_stops
 
 MOST = 1000000
 GREAT = power(num(2), num(MOST))
 MISSING = name("z")
-
-
-def same(left, right):
-    return Saying("same", left, right)
-
-
-def under(left, right):
-    return Saying("under", left, right)
-
-
 TRUE = same(num(1), num(1))
 FALSE = same(num(1), num(2))
 

@@ -2,19 +2,11 @@ import unittest
 
 from runsums.errors import NoWord
 from runsums.sayings import Saying, names_in, names_in_all
-from tests.making import full, leaning, name, num, plus, power, times
+from tests.making import full, leaning, name, num, plus, power, same, times, under
 from tests.samples import refusal
 
 ONE = plus(name("a"), times(num(2), power(name("b"), num(3))))
 OTHER = times(name("c"), num(10 ** 399))
-
-
-def same(left, right):
-    return Saying("same", left, right)
-
-
-def under(left, right):
-    return Saying("under", left, right)
 
 
 class AlwaysEqual:
